@@ -1,0 +1,320 @@
+"""The package's files held against the rules of LANGUAGE.md that a program can see."""
+
+import ast
+import builtins
+import pathlib
+import re
+import unittest
+
+PACKAGE = pathlib.Path(__file__).resolve().parent.parent / "turnleaf"
+
+FUNCTIONS = """len range enumerate zip min max sum abs sorted reversed int str bool list tuple dict set frozenset
+isinstance ord repr any all divmod""".split()
+ERRORS = """Exception ValueError TypeError KeyError IndexError LookupError ZeroDivisionError ArithmeticError
+OverflowError RuntimeError NotImplementedError AttributeError StopIteration""".split()
+METHODS = """append clear copy count endswith extend find get index insert isalnum isalpha isdigit islower isspace
+isupper items join keys ljust lower lstrip partition pop remove replace reverse rfind rjust rpartition rsplit rstrip
+setdefault split splitlines startswith strip update upper values zfill bit_length""".split()
+TWO_UNDERSCORES = ["__init__", "__eq__", "__repr__", "__str__", "__len__"]
+UNUSED = "register mro elements open input version_info with_traceback add_note format format_map".split()
+WORDS = """type typing typing_extensions enum Enum IntEnum StrEnum Flag IntFlag Generic Protocol ABC ABCMeta namedtuple
+NamedTuple TypedDict TYPE_CHECKING abstractmethod""".split()
+FORBIDDEN_WORD = re.compile(r"\b(" + "|".join(WORDS) + r")\b|dataclass|overload|contextmanager")
+FILE_NAME = re.compile(r"(__init__|__main__|[a-z][a-z0-9_]*)\.py")
+NO_FILE_NAMES = ["test", "tests", "testing", "site", "conftest", "sitecustomize", "usercustomize"]
+KEYWORDS = {"sorted": ["key", "reverse"], "min": ["key", "default"], "max": ["key", "default"], "sum": ["start"],
+            "enumerate": ["start"], "zip": ["strict"]}
+
+STATEMENTS = (ast.Assign, ast.AugAssign, ast.If, ast.While, ast.For, ast.Return, ast.Break, ast.Continue, ast.Pass,
+              ast.Raise, ast.Try, ast.Expr, ast.FunctionDef, ast.ClassDef, ast.ImportFrom)
+EXPRESSIONS = (ast.Constant, ast.List, ast.Tuple, ast.Dict, ast.Set, ast.BinOp, ast.UnaryOp, ast.BoolOp, ast.Compare,
+               ast.IfExp, ast.Call, ast.Attribute, ast.Subscript, ast.Slice, ast.ListComp, ast.JoinedStr,
+               ast.FormattedValue, ast.Lambda, ast.Name)
+
+
+def sign_faults(text):
+    for number, line in enumerate(text.split("\n"), start=1):
+        if len(line) > 120:
+            yield number, "L10 a long line"
+        if not all(" " <= sign <= "~" for sign in line):
+            yield number, "L14 a sign beyond the plain ones"
+        if FORBIDDEN_WORD.search(line):
+            yield number, "L17 a word that stands nowhere"
+    if text.count("\n") > 400:
+        yield 400, "L10 a long file"
+
+
+def is_docstring(node):
+    return isinstance(node, ast.Expr) and isinstance(node.value, ast.Constant) and isinstance(node.value.value, str)
+
+
+def is_plain(node):
+    if isinstance(node, ast.UnaryOp) and isinstance(node.op, ast.USub):
+        return is_plain(node.operand)
+    if isinstance(node, (ast.List, ast.Tuple)):
+        return all(is_plain(part) for part in node.elts)
+    if isinstance(node, ast.Dict):
+        return all(part is not None and is_plain(part) for part in node.keys + node.values)
+    return isinstance(node, (ast.Constant, ast.Name))
+
+
+def top_faults(tree):
+    bound = []
+    for place, node in enumerate(tree.body):
+        if isinstance(node, ast.ImportFrom):
+            if not re.fullmatch(r"turnleaf\.[a-z0-9_.]+", node.module or "") or node.level:
+                yield node.lineno, "L2 an import from elsewhere"
+            bound += [part.asname or part.name for part in node.names]
+        elif isinstance(node, (ast.FunctionDef, ast.ClassDef)):
+            bound.append(node.name)
+        elif isinstance(node, ast.Assign) and is_plain(node.value):
+            bound += [target.id for target in node.targets if isinstance(target, ast.Name)]
+        elif place > 0 or not is_docstring(node):
+            yield node.lineno, "L3 no thing for a module's top"
+    for name in sorted(set(bound)):
+        if bound.count(name) > 1:
+            yield 1, f"L15 bound twice: {name}"
+
+
+def function_faults(node):
+    plain = node.args
+    if plain.vararg or plain.kwarg or plain.kwonlyargs or plain.posonlyargs:
+        yield node.lineno, "L4 no plain parameters"
+    if not all(is_plain(value) for value in plain.defaults):
+        yield node.lineno, "L4 no plain default"
+    if isinstance(node, ast.FunctionDef):
+        if node.decorator_list:
+            yield node.lineno, "L4 a decorator"
+        if node.end_lineno - node.lineno >= 40:
+            yield node.lineno, "L10 a long function"
+
+
+def class_faults(node, tree):
+    if node not in tree.body:
+        yield node.lineno, "L15 a class elsewhere than at the top"
+    if node.decorator_list or node.keywords or len(node.bases) > 1:
+        yield node.lineno, "L5 no plain class"
+    for part in node.body:
+        if not isinstance(part, (ast.FunctionDef, ast.Pass)) and not is_docstring(part):
+            yield part.lineno, "L5 a value in a class"
+
+
+def statement_faults(node):
+    if not isinstance(node, STATEMENTS):
+        yield node.lineno, "L6 another statement"
+    if isinstance(node, ast.Assign) and len(node.targets) > 1:
+        yield node.lineno, "L6 more than one target"
+    if isinstance(node, (ast.For, ast.While)) and node.orelse:
+        yield node.lineno, "L6 an else behind a loop"
+    if isinstance(node, ast.Try) and node.finalbody:
+        yield node.lineno, "L6 a finally"
+    if isinstance(node, ast.Expr) and not isinstance(node.value, ast.Call) and not is_docstring(node):
+        yield node.lineno, "L6 a value by itself"
+
+
+def constant_faults(node):
+    value = node.value
+    if isinstance(value, (float, complex, bytes)) or value is Ellipsis:
+        yield node.lineno, "L7 a value of another kind"
+    if isinstance(value, str) and "%" in value:
+        yield node.lineno, "L27 a sign within a text"
+
+
+def comparison_faults(node):
+    sides = [node.left] + node.comparators
+    for place, op in enumerate(node.ops):
+        beside = sides[place:place + 2]
+        plain = any(isinstance(side, ast.Constant) and side.value in (None, True, False) for side in beside)
+        if isinstance(op, (ast.Is, ast.IsNot)) and not plain:
+            yield node.lineno, "L20 is beside another value"
+
+
+def call_faults(node):
+    name = node.func.id if isinstance(node.func, ast.Name) else None
+    for keyword in node.keywords:
+        if name in FUNCTIONS + ERRORS and keyword.arg not in KEYWORDS.get(name, []):
+            yield node.lineno, "L22 a keyword"
+        if keyword.arg is None:
+            yield node.lineno, "L7 a star"
+
+
+def expression_faults(node):
+    if not isinstance(node, EXPRESSIONS):
+        yield node.lineno, "L7 another expression"
+    if isinstance(node, ast.BinOp) and isinstance(node.op, (ast.Div, ast.MatMult)):
+        yield node.lineno, "L7 another operator"
+    if isinstance(node, ast.BinOp) and isinstance(node.op, ast.Pow) and isinstance(node.left, ast.Constant):
+        if node.left.value == 2 and not isinstance(node.right, ast.Constant):
+            yield node.lineno, "L27 a power of 2"
+    if isinstance(node, ast.ListComp):
+        if len(node.generators) > 1 or len(node.generators[0].ifs) > 1:
+            yield node.lineno, "L7 a comprehension with more"
+    if isinstance(node, ast.FormattedValue):
+        if not isinstance(node.value, ast.Name) or node.format_spec or node.conversion not in (-1, ord("r")):
+            yield node.lineno, "L7 an f-string with more"
+    for kind, faults in ((ast.Constant, constant_faults), (ast.Compare, comparison_faults), (ast.Call, call_faults)):
+        if isinstance(node, kind):
+            yield from faults(node)
+
+
+def handler_faults(node):
+    taken = node.type.elts if isinstance(node.type, ast.Tuple) else [node.type]
+    for part in taken:
+        if not isinstance(part, ast.Name) or part.id in ("Exception", "TypeError", "BaseException"):
+            yield node.lineno, "L19 what is taken"
+
+
+def names_bound(tree):
+    for node in ast.walk(tree):
+        if isinstance(node, (ast.FunctionDef, ast.ClassDef)):
+            yield node.lineno, node.name
+        elif isinstance(node, ast.arg):
+            yield node.lineno, node.arg
+        elif isinstance(node, ast.Name) and isinstance(node.ctx, ast.Store):
+            yield node.lineno, node.id
+        elif isinstance(node, ast.ExceptHandler) and node.name:
+            yield node.lineno, node.name
+        elif isinstance(node, ast.ImportFrom):
+            for part in node.names:
+                yield node.lineno, part.asname or part.name
+
+
+def methods_of(tree):
+    return [part for node in tree.body if isinstance(node, ast.ClassDef) for part in node.body
+            if isinstance(part, ast.FunctionDef)]
+
+
+def name_faults(tree):
+    methods = [(node.lineno, node.name) for node in methods_of(tree)]
+    bound = list(names_bound(tree))
+    for line, name in bound:
+        if name.startswith("_") and name not in TWO_UNDERSCORES:
+            yield line, f"L12 a name with an underscore ahead: {name}"
+        if hasattr(builtins, name) and (line, name) not in methods:
+            yield line, f"L15 a name of Python's own: {name}"
+        if name in UNUSED:
+            yield line, f"L17 a name that is not used: {name}"
+    known = FUNCTIONS + ERRORS + [name for line, name in bound]
+    for node in ast.walk(tree):
+        if isinstance(node, ast.Name) and node.id not in known:
+            yield node.lineno, f"L8 another name: {node.id}"
+
+
+def file_faults(text):
+    yield from sign_faults(text)
+    tree = ast.parse(text)
+    yield from top_faults(tree)
+    yield from name_faults(tree)
+    for node in ast.walk(tree):
+        if isinstance(node, (ast.FunctionDef, ast.Lambda)):
+            yield from function_faults(node)
+        if isinstance(node, ast.ClassDef):
+            yield from class_faults(node, tree)
+        if isinstance(node, ast.stmt):
+            yield from statement_faults(node)
+        if isinstance(node, ast.expr):
+            yield from expression_faults(node)
+        if isinstance(node, ast.ExceptHandler):
+            yield from handler_faults(node)
+        if isinstance(node, ast.ImportFrom) and node not in tree.body:
+            yield node.lineno, "L2 an import elsewhere than at the top"
+
+
+def values_given(tree):
+    return [node.attr for node in ast.walk(tree) if isinstance(node, ast.Attribute) and isinstance(node.ctx, ast.Store)]
+
+
+def package_faults(texts):
+    """Of a dict from module name to text: what only shows across the files."""
+    trees = {name: ast.parse(text) for name, text in texts.items()}
+    methods = [node.name for tree in trees.values() for node in methods_of(tree)]
+    values = [name for tree in trees.values() for name in values_given(tree)]
+    for name in sorted(set(methods) & set(values)):
+        yield f"L18 a method and a value: {name}"
+    for module, tree in trees.items():
+        for node in ast.walk(tree):
+            if isinstance(node, ast.Attribute) and node.attr not in METHODS + methods + values + TWO_UNDERSCORES:
+                yield f"{module}:{node.lineno} L25 another method: {node.attr}"
+    yield from import_faults(trees)
+
+
+def defined(tree):
+    names = [node.name for node in tree.body if isinstance(node, (ast.FunctionDef, ast.ClassDef))]
+    return names + [target.id for node in tree.body if isinstance(node, ast.Assign) for target in node.targets]
+
+
+def import_faults(trees):
+    drawn = {module: [] for module in trees}
+    for module, tree in trees.items():
+        for node in tree.body:
+            if isinstance(node, ast.ImportFrom):
+                drawn[module].append(node.module)
+                for part in node.names:
+                    if node.module not in trees or part.name not in defined(trees[node.module]):
+                        yield f"{module}:{node.lineno} L16 not defined there: {part.name}"
+    for module in trees:
+        reached = list(drawn[module])
+        for other in reached:
+            reached += [further for further in drawn.get(other, []) if further not in reached]
+        if module in reached:
+            yield f"{module} L16 draws from itself"
+
+
+def package_files():
+    return [path for path in sorted(PACKAGE.rglob("*")) if "__pycache__" not in path.parts]
+
+
+class ThePackage(unittest.TestCase):
+    def test_its_folder_holds_files_of_plain_names_alone(self):
+        self.assertIn(PACKAGE / "__init__.py", package_files())
+        for path in package_files():
+            with self.subTest(path=path):
+                self.assertTrue(path.is_file())
+                self.assertTrue(FILE_NAME.fullmatch(path.name))
+                self.assertFalse(path.stem in NO_FILE_NAMES + WORDS or path.stem.startswith("test_"))
+                self.assertFalse(path.stem != "__init__" and hasattr(builtins, path.stem))
+
+    def test_each_file(self):
+        for path in package_files():
+            with self.subTest(path=path):
+                self.assertEqual([], list(file_faults(path.read_text(encoding="utf-8"))))
+
+    def test_the_files_together(self):
+        texts = {f"turnleaf.{path.stem}": path.read_text(encoding="utf-8") for path in package_files()}
+        self.assertEqual([], list(package_faults(texts)))
+
+
+class TheCheck(unittest.TestCase):
+    """A check that finds nothing anywhere would pass as well: so it is shown faults."""
+
+    def test_faults_of_a_file_are_found(self):
+        for rule, text in (
+            ("L2", "from os import path\n"), ("L3", "print(1)\n"), ("L3", "A = 10 ** 18\n"),
+            ("L4", "def f(*a):\n    return a\n"), ("L5", "class A:\n    x = 1\n"), ("L6", "def f():\n    assert 1\n"),
+            ("L6", "def f():\n    a = b = 1\n    return a + b\n"), ("L7", "def f():\n    return 1 / 2\n"),
+            ("L7", "A = 1.5\n"), ("L7", "def f(x):\n    return {a for a in x}\n"),
+            ("L7", "def f(x):\n    return f'{x.y}'\n"), ("L8", "def f(x):\n    return map(x)\n"),
+            ("L8", "def f(x):\n    return chr(x)\n"), ("L10", "A = '" + "a" * 120 + "'\n"),
+            ("L10", "def f():\n" + "    f()\n" * 40), ("L10", "\n" * 401), ("L12", "def f(_a):\n    return _a\n"),
+            ("L14", "# \u00e4\n"), ("L15", "A = 1\nA = 2\n"), ("L15", "def f(id):\n    return id\n"),
+            ("L17", "# a type\n"), ("L17", "def register():\n    pass\n"),
+            ("L19", "def f():\n    try:\n        f()\n    except Exception:\n        pass\n"),
+            ("L20", "def f(x, y):\n    return x is y\n"), ("L22", "def f(x):\n    return int(x, base=2)\n"),
+            ("L27", "A = '%'\n"), ("L27", "def f(n):\n    return 2 ** n\n"),
+        ):
+            with self.subTest(text=text[:60]):
+                self.assertIn(rule, [fault.split()[0] for line, fault in file_faults(text)])
+
+    def test_faults_across_files_are_found(self):
+        for rule, texts in (
+            ("L16", {"turnleaf.a": "from turnleaf.b import c\n", "turnleaf.b": "c = 1\nfrom turnleaf.a import d\n"}),
+            ("L16", {"turnleaf.a": "from turnleaf.b import c\n", "turnleaf.b": "d = 1\n"}),
+            ("L18", {"turnleaf.a": "class A:\n    def row(self):\n        self.row = 1\n"}),
+            ("L25", {"turnleaf.a": "def f(x):\n    return x.casefold()\n"}),
+        ):
+            with self.subTest(texts=texts):
+                self.assertTrue([fault for fault in package_faults(texts) if rule in fault.split()])
+
+
+if __name__ == "__main__":
+    unittest.main()

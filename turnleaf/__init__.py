@@ -1,0 +1,1 @@
+"""Turnleaf: lists shown leaf by leaf while others change them."""
