@@ -25,6 +25,13 @@ NO_FILE_NAMES = ["test", "tests", "testing", "site", "conftest", "sitecustomize"
 KEYWORDS = {"sorted": ["key", "reverse"], "min": ["key", "default"], "max": ["key", "default"], "sum": ["start"],
             "enumerate": ["start"], "zip": ["strict"]}
 
+WALKED = ["zip", "enumerate", "reversed", "range"]
+WALKED_METHODS = ["items", "keys", "values"]
+WALKERS = ["list", "tuple", "dict", "sorted", "sum", "any", "all", "enumerate", "zip", "min", "max"]
+CHANGING = ["append", "clear", "extend", "insert", "pop", "remove", "reverse", "setdefault", "update"]
+VALUE_NAMES = "count index title find get join lower upper split strip copy add".split()
+PYTHONS_OWN = {name for kind in (str, int, list, tuple, dict, set, bytes) for name in dir(kind) if name[0] != "_"}
+
 STATEMENTS = (ast.Assign, ast.AugAssign, ast.If, ast.While, ast.For, ast.Return, ast.Break, ast.Continue, ast.Pass,
               ast.Raise, ast.Try, ast.Expr, ast.FunctionDef, ast.ClassDef, ast.ImportFrom)
 EXPRESSIONS = (ast.Constant, ast.List, ast.Tuple, ast.Dict, ast.Set, ast.BinOp, ast.UnaryOp, ast.BoolOp, ast.Compare,
@@ -200,11 +207,107 @@ def name_faults(tree):
             yield node.lineno, f"L8 another name: {node.id}"
 
 
+def parents_of(tree):
+    return {child: node for node in ast.walk(tree) for child in ast.iter_child_nodes(node)}
+
+
+def called_name(node):
+    return node.func.id if isinstance(node, ast.Call) and isinstance(node.func, ast.Name) else None
+
+
+def called_method(node):
+    return node.func.attr if isinstance(node, ast.Call) and isinstance(node.func, ast.Attribute) else None
+
+
+def is_walked_at_once(node, parent):
+    if isinstance(parent, (ast.For, ast.comprehension)):
+        return node is parent.iter
+    if called_method(parent) == "join":
+        return isinstance(parent.func.value, ast.Constant)
+    return called_name(parent) in WALKERS and node in parent.args
+
+
+def is_asked_at_once(node, parent):
+    if isinstance(parent, ast.Compare):
+        return all(isinstance(op, (ast.In, ast.NotIn, ast.Eq, ast.NotEq)) for op in parent.ops)
+    if isinstance(parent, ast.BinOp):
+        return isinstance(parent.op, (ast.Sub, ast.BitAnd, ast.BitOr, ast.BitXor))
+    return called_name(parent) in ("sorted", "len") and not parent.keywords
+
+
+def handing_faults(tree):
+    """What is walked, asked or called where it stands, and not kept or handed on."""
+    parents = parents_of(tree)
+    for node in ast.walk(tree):
+        parent = parents.get(node)
+        if called_name(node) in WALKED or (called_method(node) in WALKED_METHODS and not node.args):
+            if not is_walked_at_once(node, parent):
+                yield node.lineno, "L23 not walked on the spot"
+        if called_name(node) in ("set", "frozenset") or isinstance(node, ast.Set):
+            if not is_asked_at_once(node, parent):
+                yield node.lineno, "L24 a set that is kept"
+        if isinstance(node, ast.Attribute) and node.attr in METHODS and isinstance(node.ctx, ast.Load):
+            if not (isinstance(parent, ast.Call) and parent.func is node) and not isinstance(parent, ast.keyword):
+                yield node.lineno, "L25 a method handed on"
+        if isinstance(node, ast.Name) and node.id in FUNCTIONS and not isinstance(parent, (ast.Call, ast.keyword)):
+            if not (isinstance(parent, ast.Tuple) and called_name(parents.get(parent)) == "isinstance"):
+                yield node.lineno, "L22 a function of Python's own kept as a value"
+
+
+def loop_faults(tree):
+    for loop in ast.walk(tree):
+        if isinstance(loop, ast.For):
+            walked = {ast.unparse(part) for part in ast.walk(loop.iter) if isinstance(part, (ast.Name, ast.Attribute))}
+            for node in [part for statement in loop.body for part in ast.walk(statement)]:
+                changed = called_method(node) in CHANGING and ast.unparse(node.func.value) in walked
+                stored = isinstance(node, ast.Subscript) and isinstance(node.ctx, ast.Store)
+                if changed or (stored and ast.unparse(node.value) in walked):
+                    yield node.lineno, "L23 what is walked is changed"
+
+
+def local_faults(tree):
+    imports = [node for node in tree.body if isinstance(node, ast.ImportFrom)]
+    imported = [part.asname or part.name for node in imports for part in node.names]
+    taken = imported + [node.name for node in tree.body if isinstance(node, ast.ClassDef)]
+    for node in ast.walk(tree):
+        if isinstance(node, ast.arg) and (node.arg in taken or node.annotation):
+            yield node.lineno, f"L15 or L21 of a parameter: {node.arg}"
+        if isinstance(node, ast.Name) and isinstance(node.ctx, ast.Store) and node.id in taken:
+            yield node.lineno, f"L15 a local like an import or a class: {node.id}"
+        if isinstance(node, ast.FunctionDef) and node.returns:
+            yield node.lineno, "L21 an annotation"
+    for node in methods_of(tree):
+        if node.name == "__init__" and any(isinstance(part, ast.Return) for part in ast.walk(node)):
+            yield node.lineno, "L28 __init__ gives something back"
+
+
+def is_class_use(node, parent, grand):
+    if isinstance(parent, ast.Call):
+        return parent.func is node or called_name(parent) == "isinstance"
+    if isinstance(parent, ast.Tuple):
+        return isinstance(grand, ast.ExceptHandler) or called_name(grand) == "isinstance"
+    if isinstance(parent, ast.Attribute):
+        return parent.attr == "__init__"
+    return isinstance(parent, (ast.ClassDef, ast.ExceptHandler))
+
+
+def class_use_faults(tree, classes):
+    parents = parents_of(tree)
+    for node in ast.walk(tree):
+        if isinstance(node, ast.Name) and node.id in classes:
+            parent = parents[node]
+            if not is_class_use(node, parent, parents.get(parent)):
+                yield f"{node.lineno} L18 a class handed on: {node.id}"
+
+
 def file_faults(text):
     yield from sign_faults(text)
     tree = ast.parse(text)
     yield from top_faults(tree)
     yield from name_faults(tree)
+    yield from handing_faults(tree)
+    yield from loop_faults(tree)
+    yield from local_faults(tree)
     for node in ast.walk(tree):
         if isinstance(node, (ast.FunctionDef, ast.Lambda)):
             yield from function_faults(node)
@@ -231,7 +334,15 @@ def package_faults(texts):
     values = [name for tree in trees.values() for name in values_given(tree)]
     for name in sorted(set(methods) & set(values)):
         yield f"L18 a method and a value: {name}"
+    free = METHODS + ["add", "discard"] + TWO_UNDERSCORES
+    for name in [name for name in methods if name in PYTHONS_OWN and name not in free]:
+        yield f"L26 a method's name: {name}"
+    for name in [name for name in values if name in PYTHONS_OWN | {"args"} and name not in VALUE_NAMES]:
+        yield f"L26 a value's name: {name}"
+    classes = [node.name for tree in trees.values() for node in tree.body if isinstance(node, ast.ClassDef)]
     for module, tree in trees.items():
+        for fault in class_use_faults(tree, classes):
+            yield f"{module}:{fault}"
         for node in ast.walk(tree):
             if isinstance(node, ast.Attribute) and node.attr not in METHODS + methods + values + TWO_UNDERSCORES:
                 yield f"{module}:{node.lineno} L25 another method: {node.attr}"
@@ -300,6 +411,15 @@ class TheCheck(unittest.TestCase):
             ("L17", "# a type\n"), ("L17", "def register():\n    pass\n"),
             ("L19", "def f():\n    try:\n        f()\n    except Exception:\n        pass\n"),
             ("L20", "def f(x, y):\n    return x is y\n"), ("L22", "def f(x):\n    return int(x, base=2)\n"),
+            ("L15", "class A:\n    pass\n\n\ndef f(A):\n    return A\n"),
+            ("L15", "from turnleaf.b import c\ndef f():\n    c = 1\n"),
+            ("L21", "def f() -> int:\n    return 1\n"), ("L22", "def f():\n    return len\n"),
+            ("L23", "def f(x):\n    y = zip(x, x)\n    return list(y)\n"), ("L23", "def f(x):\n    return x.items()\n"),
+            ("L23", "def f(x):\n    for y in x:\n        x.pop(y)\n"),
+            ("L23", "def f(x):\n    for y, z in enumerate(x):\n        x[y] = z\n"),
+            ("L24", "def f(x):\n    return set(x)\n"), ("L24", "def f(x):\n    for y in set(x):\n        f(y)\n"),
+            ("L25", "def f(x):\n    y = x.append\n    y(1)\n"),
+            ("L28", "class A:\n    def __init__(self):\n        return None\n"),
             ("L27", "A = '%'\n"), ("L27", "def f(n):\n    return 2 ** n\n"),
         ):
             with self.subTest(text=text[:60]):
@@ -310,6 +430,9 @@ class TheCheck(unittest.TestCase):
             ("L16", {"turnleaf.a": "from turnleaf.b import c\n", "turnleaf.b": "c = 1\nfrom turnleaf.a import d\n"}),
             ("L16", {"turnleaf.a": "from turnleaf.b import c\n", "turnleaf.b": "d = 1\n"}),
             ("L18", {"turnleaf.a": "class A:\n    def row(self):\n        self.row = 1\n"}),
+            ("L18", {"turnleaf.a": "class A:\n    pass\n\n\ndef f():\n    return [A]\n"}),
+            ("L26", {"turnleaf.a": "class A:\n    def title(self):\n        pass\n"}),
+            ("L26", {"turnleaf.a": "class A:\n    def __init__(self):\n        self.items = 1\n"}),
             ("L25", {"turnleaf.a": "def f(x):\n    return x.casefold()\n"}),
         ):
             with self.subTest(texts=texts):
