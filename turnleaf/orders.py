@@ -10,7 +10,8 @@ DOWN_AHEAD = "-"
 
 
 def read_order_word(columns, word):
-    sign, name = word[:1], word[1:]
+    sign = word[:1]
+    name = word[1:]
     if sign not in (UP_AHEAD, DOWN_AHEAD):
         raise NoOrder(f"no + or - ahead: {word}")
     if place_of(columns, name) is None:

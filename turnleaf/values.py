@@ -8,7 +8,6 @@ FIGURES = "0123456789"
 LETTERS = "abcdefghijklmnopqrstuvwxyz"
 TEXT_SIGNS = "abcdefghijklmnopqrstuvwxyz0123456789-"
 LARGEST = 1_000_000_000_000_000_000
-LARGEST_FIGURES = 19
 LONGEST = 20
 NONE_WORD = "?"
 TEXT_AHEAD = "'"
@@ -61,21 +60,23 @@ def are_figures(word):
     return word == "0" or (word != "" and word[0] != "0" and made_of(word, FIGURES))
 
 
-def is_number_word(word):
-    if word.startswith(BELOW_AHEAD):
-        figures = word[1:]
-        # 0 has its word already.
-        return figures != "0" and are_figures(figures)
-    return are_figures(word)
+def read_figures(word, most):
+    """The number from 0 to most that the word writes, or None."""
+    # Python's int takes no text beyond some thousand figures, so the length is asked ahead of it.
+    if are_figures(word) and len(word) <= len(str(most)):
+        number = int(word)
+        if number <= most:
+            return number
+    return None
 
 
 def read_number_word(word):
-    # Python's int takes no text beyond some thousand figures, so the length is asked ahead of it.
-    if is_number_word(word) and len(word) <= len(BELOW_AHEAD) + LARGEST_FIGURES:
-        number = int(word)
-        if is_number_value(number):
-            return number
-    raise NoValue(f"no number's word: {word}")
+    below = word.startswith(BELOW_AHEAD)
+    number = read_figures(word[1:] if below else word, LARGEST)
+    # 0 has its word already, without a sign ahead.
+    if number is None or (below and number == 0):
+        raise NoValue(f"no number's word: {word}")
+    return -number if below else number
 
 
 def read_text_word(word):
