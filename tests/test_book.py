@@ -3,19 +3,11 @@
 import random
 import unittest
 
+from helper import COLUMNS, all_told
 from turnleaf.book import Book
 from turnleaf.errors import Absent, Gone, Later, NoColumns, NoRow, Twice
 
-COLUMNS = [("age", "number"), ("name", "text")]
 MOST_ROW = 10 ** 9
-
-
-def all_told(book):
-    """All that a book tells, to be held against what it tells later."""
-    moments = range(book.oldest(), book.moment() + 1)
-    rows = book.now_rows()
-    return (book.columns(), book.moment(), book.oldest(), rows, [book.since(row) for row, values in rows],
-            [book.rows_at(moment) for moment in moments], [book.deeds(moment) for moment in moments])
 
 
 def made():

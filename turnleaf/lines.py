@@ -1,4 +1,4 @@
-"""Lines: rows in an order, and the places of cuts in them."""
+"""Lines: rows that a sieve lets through, in an order, and the places of cuts in them."""
 
 from turnleaf.columns import place_of
 from turnleaf.orders import key_ahead, key_of
@@ -25,6 +25,10 @@ def sorted_by(rows, place, up):
     if up:
         return sorted(rows, key=rank)
     return sorted(rows, key=rank, reverse=True)
+
+
+def let_through(sieve, rows):
+    return [(row, values) for row, values in rows if sieve.lets(values)]
 
 
 def line_of(columns, order, rows):
