@@ -71,3 +71,10 @@ def next_leaf(book, leaf, size, onward):
 
 def in_direction(rows, onward):
     return list(rows) if onward else rows[::-1]
+
+
+def stood_in(order, lines):
+    """The rows that are in each of the lines, dicts of row and values, with always the same key; rising."""
+    rows = [row for row in sorted(lines[0]) if all(row in line for line in lines)]
+    keys = {row: keys_by(order, [(row, line[row]) for line in lines]) for row in rows}
+    return [row for row in rows if all(key == keys[row][0] for key in keys[row])]

@@ -6,7 +6,7 @@ import unittest
 
 from helper import (
     COLUMNS, MAKES, ORDERS, SIEVES, begin_leaf, deeds_by_chance, in_direction, keys_by, line_wanted, next_leaf,
-    put_by_chance,
+    put_by_chance, stood_in,
 )
 from turnleaf.book import Book
 from turnleaf.errors import Gone, NoMark
@@ -83,12 +83,7 @@ class Reading:
         return dict(line_wanted(sorted(rows.items()), self.order, self.sieve))
 
     def stood(self):
-        lines = [self.through(rows) for rows in self.books]
-        for row in lines[0]:
-            if all(row in line for line in lines):
-                keys = keys_by(self.order, [(row, line[row]) for line in lines])
-                if all(key == keys[0] for key in keys):
-                    yield row
+        return stood_in(self.order, [self.through(rows) for rows in self.books])
 
 
 class LivingLists(unittest.TestCase):
@@ -268,12 +263,7 @@ class ByPlaces(unittest.TestCase):
         for seed in range(400):
             order, leaves, lines = self.take_leaves(random.Random(seed))
             times = collections.Counter(told[0] for leaf in leaves for told in leaf[0])
-            total = 0
-            for row in lines[0]:
-                if all(row in line for line in lines):
-                    keys = keys_by(order, [(row, line[row]) for line in lines])
-                    if all(key == keys[0] for key in keys):
-                        total += abs(times[row] - 1)
+            total = sum(abs(times[row] - 1) for row in stood_in(order, lines))
             self.assertLessEqual(total, leaves[-1][5] - leaves[0][5])
             seen.append(total)
         self.assertGreater(sum(seen), 50)

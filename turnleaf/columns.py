@@ -1,7 +1,7 @@
 """Columns: which lists of them there are, where a name stands, and what is a row of them."""
 
 from turnleaf.errors import NoColumns
-from turnleaf.values import LETTERS, NUMBER, TEXT, is_value, is_whole, made_of
+from turnleaf.values import LETTERS, NUMBER, TEXT, is_value, is_whole, made_of, value_word
 
 MOST_COLUMNS = 6
 LONGEST_NAME = 8
@@ -30,6 +30,14 @@ def place_of(columns, name):
         if column[0] == name:
             return place
     return None
+
+
+def kinds_of(columns):
+    return [kind for name, kind in columns]
+
+
+def row_words(row, values):
+    return [str(row)] + [value_word(value) for value in values]
 
 
 def is_row_number(row):

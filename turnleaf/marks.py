@@ -1,12 +1,12 @@
 """Marks: what is handed back to turn a list, as a tuple (make, moment, order, sieve, cut) and as a text."""
 
 from turnleaf.checks import check_word
-from turnleaf.columns import LARGEST_ROW, place_of
+from turnleaf.columns import LARGEST_ROW, place_of, row_words
 from turnleaf.errors import NoMark, NoOrder, NoSieve, NoValue
 from turnleaf.lines import AHEAD, BEHIND
 from turnleaf.orders import order_text, read_order
 from turnleaf.sifting import read_sieve
-from turnleaf.values import read_figures, read_value, value_word
+from turnleaf.values import read_figures, read_values
 
 LIVING = "living"
 STILL = "still"
@@ -21,7 +21,7 @@ BEHIND_SIGN = ">"
 def cut_text(cut):
     values, row = cut[1]
     sign = AHEAD_SIGN if cut[0] == AHEAD else BEHIND_SIGN
-    return sign + " ".join([str(row)] + [value_word(value) for value in values])
+    return sign + " ".join(row_words(row, values))
 
 
 def mark_text(mark):
@@ -56,11 +56,8 @@ def read_cut(columns, order, text):
     side = read_side(text[:1])
     words = text[1:].split(" ")
     row = read_whole(words[0], LARGEST_ROW)
-    if len(words) != 1 + len(order):
-        raise NoMark("a key has a word for each column of the order")
     kinds = [columns[place_of(columns, name)][1] for name, up in order]
-    values = [read_value(kind, word) for kind, word in zip(kinds, words[1:])]
-    return (side, (values, row))
+    return (side, (read_values(kinds, words[1:]), row))
 
 
 def read_body(columns, body):

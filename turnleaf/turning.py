@@ -8,9 +8,9 @@ from turnleaf.orders import read_order
 from turnleaf.sifting import read_sieve
 
 
-def line_of_list(book, make, begin, order, sieve):
+def rows_of_list(book, make, begin, sieve):
     rows = book.now_rows() if make == LIVING else book.rows_at(begin)
-    return line_of(book.columns(), order, let_through(sieve, rows))
+    return let_through(sieve, rows)
 
 
 def is_untouched(book, make, begin, row):
@@ -26,7 +26,7 @@ def mark_at(mark, cut):
 def leaf_from(book, mark, size, onward):
     make, begin, order, text, cut = mark
     columns = book.columns()
-    line = line_of_list(book, make, begin, order, read_sieve(columns, text))
+    line = line_of(columns, order, rows_of_list(book, make, begin, read_sieve(columns, text)))
     if onward:
         here, back, forth, ahead = leaf_forth(columns, order, line, cut, size)
     else:

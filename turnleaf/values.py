@@ -9,6 +9,7 @@ LETTERS = "abcdefghijklmnopqrstuvwxyz"
 TEXT_SIGNS = "abcdefghijklmnopqrstuvwxyz0123456789-"
 LARGEST = 1_000_000_000_000_000_000
 LONGEST = 20
+TEN_FIGURES = 9_999_999_999
 NONE_WORD = "?"
 TEXT_AHEAD = "'"
 BELOW_AHEAD = "-"
@@ -91,3 +92,10 @@ def read_value(kind, word):
     if kind == NUMBER:
         return read_number_word(word)
     return read_text_word(word)
+
+
+def read_values(kinds, words):
+    """A value by each of the kinds, of as many words."""
+    if len(words) != len(kinds):
+        raise NoValue("there is a word for each value")
+    return [read_value(kind, word) for kind, word in zip(kinds, words)]
