@@ -371,6 +371,33 @@ def import_faults(trees):
             yield f"{module} L16 draws from itself"
 
 
+def narrower_faults(tree):
+    """What the rules allow in part only, and the package does without: so those parts need no look."""
+    own = [node.name for node in tree.body if isinstance(node, (ast.ClassDef, ast.FunctionDef))]
+    own += [part.name for node in tree.body if isinstance(node, ast.ImportFrom) for part in node.names]
+    for node in tree.body:
+        if isinstance(node, ast.Assign) and not isinstance(node.value, ast.Constant):
+            yield node.lineno, "L15 more than a plain value at the top"
+    for node in methods_of(tree):
+        if node.name in TWO_UNDERSCORES and node.name != "__init__":
+            yield node.lineno, "L28 a method with two underscores"
+    for node in ast.walk(tree):
+        if isinstance(node, ast.Lambda):
+            yield node.lineno, "L13 a lambda"
+        if isinstance(node, ast.Set) or called_name(node) == "frozenset":
+            yield node.lineno, "L13 a set written out"
+        if isinstance(node, ast.ExceptHandler):
+            taken = node.type.elts if isinstance(node.type, ast.Tuple) else [node.type]
+            if not all(isinstance(part, ast.Name) and part.id in own for part in taken):
+                yield node.lineno, "L19 an error of Python's own is taken"
+        if isinstance(node, ast.Raise):
+            if called_name(node.exc) not in own or not (node.cause is None or is_plain(node.cause)):
+                yield node.lineno, "L19 what is raised"
+        if isinstance(node, ast.ClassDef):
+            if not all(isinstance(base, ast.Name) and base.id in own + ["ValueError"] for base in node.bases):
+                yield node.lineno, "L5 another base"
+
+
 def package_files():
     return [path for path in sorted(PACKAGE.rglob("*")) if "__pycache__" not in path.parts]
 
@@ -388,7 +415,8 @@ class ThePackage(unittest.TestCase):
     def test_each_file(self):
         for path in package_files():
             with self.subTest(path=path):
-                self.assertEqual([], list(file_faults(path.read_text(encoding="utf-8"))))
+                text = path.read_text(encoding="utf-8")
+                self.assertEqual([], list(file_faults(text)) + list(narrower_faults(ast.parse(text))))
 
     def test_the_files_together(self):
         texts = {f"turnleaf.{path.stem}": path.read_text(encoding="utf-8") for path in package_files()}
@@ -424,6 +452,19 @@ class TheCheck(unittest.TestCase):
         ):
             with self.subTest(text=text[:60]):
                 self.assertIn(rule, [fault.split()[0] for line, fault in file_faults(text)])
+
+    def test_what_the_package_does_without_is_found(self):
+        for rule, text in (
+            ("L15", "A = [1]\n"), ("L15", "A = {}\n"), ("L13", "def f():\n    return lambda x: x\n"),
+            ("L13", "def f(x):\n    return x in {1, 2, 3}\n"),
+            ("L28", "class A:\n    def __len__(self):\n        return 0\n"),
+            ("L19", "def f():\n    try:\n        f()\n    except ValueError:\n        pass\n"),
+            ("L19", "def f():\n    try:\n        f()\n    except (f, KeyError):\n        pass\n"),
+            ("L19", "def f():\n    raise ValueError('a')\n"), ("L19", "def f(e):\n    raise e\n"),
+            ("L5", "class A(KeyError):\n    pass\n"),
+        ):
+            with self.subTest(text=text):
+                self.assertIn(rule, [fault.split()[0] for line, fault in narrower_faults(ast.parse(text))])
 
     def test_faults_across_files_are_found(self):
         for rule, texts in (
